@@ -1,0 +1,1 @@
+"""Fewreels: rows merged to one on a few reels."""

@@ -1,0 +1,12 @@
+"""What counts as a whole number, for all modules."""
+
+
+def is_whole(thing):
+    """Whether it is a whole number, of anything."""
+    # Python's truths are ints as well, but no whole numbers here.
+    return isinstance(thing, int) and not isinstance(thing, bool)
+
+
+def is_place(thing, many):
+    """Whether it is a place, from 0, of so many, of anything."""
+    return is_whole(thing) and 0 <= thing < many
