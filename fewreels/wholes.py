@@ -1,4 +1,4 @@
-"""What counts as a whole number, for all modules."""
+"""What counts as a whole number, a list and a tuple, for all modules."""
 
 
 def is_whole(thing):
@@ -10,3 +10,13 @@ def is_whole(thing):
 def is_place(thing, many):
     """Whether it is a place, from 0, of so many, of anything."""
     return is_whole(thing) and 0 <= thing < many
+
+
+def is_listed(thing):
+    """Whether it may stand where a list is told to be handed in, of anything."""
+    return isinstance(thing, (list, tuple))
+
+
+def is_tuple_of(thing, many):
+    """Whether it is a tuple of so many, of anything."""
+    return isinstance(thing, tuple) and len(thing) == many

@@ -108,6 +108,16 @@ class Statements(unittest.TestCase):
             for each in node.names:
                 self.assertIn(each.name, names, name)
 
+    def test_no_imports_in_a_ring(self):
+        ahead = {}
+        for path, tree in trees():
+            ahead[path.stem] = {node.module.split(".")[1] for node in tree.body if isinstance(node, ast.ImportFrom)}
+        while ahead:
+            free = [name for name, needed in ahead.items() if not needed & set(ahead)]
+            self.assertTrue(free, ahead)
+            for name in free:
+                del ahead[name]
+
     def test_no_barred_statement_or_expression(self):
         for name, node in nodes(*BARRED_NODES):
             self.fail((name, node.__class__.__name__, getattr(node, "lineno", None)))
@@ -152,6 +162,16 @@ class Names(unittest.TestCase):
                 self.assertRegex(name, r"^[A-Za-z][A-Za-z0-9_]*$", path.name)
                 self.assertNotIn(name, BARRED_NAMES, path.name)
                 self.assertFalse(hasattr(builtins, name), (path.name, name))
+
+    def test_no_local_has_the_name_of_an_import_or_a_class(self):
+        for path, tree in trees():
+            taken = {node.name for node in tree.body if isinstance(node, ast.ClassDef)}
+            taken |= {each.asname or each.name for node in tree.body if isinstance(node, ast.ImportFrom)
+                      for each in node.names}
+            for node in tree.body:
+                if isinstance(node, (ast.FunctionDef, ast.ClassDef)):
+                    inside = set(bound_names(node)) - {node.name}
+                    self.assertEqual(inside & taken, set(), path.name)
 
     def test_builtins(self):
         for path, tree in trees():

@@ -1,0 +1,22 @@
+"""Stage 5: how often the row at each place of a level is read."""
+
+from fewreels.errors import TooMany
+from fewreels.levels import level_total
+
+MOST_PLACES = 4000
+
+
+def next_numbers(numbers):
+    """The numbers of the level behind the one that has these."""
+    first = tuple([number + 1 for number in numbers[0]])
+    return tuple([first + reel for reel in numbers[1:]] + [first])
+
+
+def level_numbers(p, n):
+    """For each reel the numbers of its places by level n, the first read first."""
+    if level_total(p, n) > MOST_PLACES:
+        raise TooMany(f"numbers are told of at most {MOST_PLACES} places")
+    numbers = tuple([(0,)] + [()] * (p - 1))
+    for level in range(n):
+        numbers = next_numbers(numbers)
+    return numbers

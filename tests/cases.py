@@ -1,0 +1,42 @@
+"""What several tests need: the ways there are, what is none, and levels reckoned by hand."""
+
+FAR = 10 ** 60 - 1
+WAYS = (2, 3, 4, 5, 6, 7)
+NO_NUMBERS = (True, False, None, "", "2", "3", "x", [], [2], [2, 3], (), (2,), (3, 3), {}, {2: 3}, b"", b"2", {2}, int,
+              len, range(3), object())
+NO_WAYS = (1, 8, 0, -1, -2, -7, 9, 100, FAR, -FAR, 10 ** 5000, -10 ** 5000) + NO_NUMBERS
+NO_LEVELS = (-1, 301, 302, -2, -300, 1000, FAR, -FAR, 10 ** 5000, -10 ** 5000) + NO_NUMBERS
+
+
+def counts_by_hand(p, n):
+    """The counts of level n, by p sequences that are gone through one number at a time."""
+    # Reel k of a level is the sum of the greatest counts of the p + 1 - k levels ahead.
+    greatest = [0] * (p - 1) + [1]
+    for _ in range(n):
+        greatest.append(sum(greatest[-p:]))
+    if n == 0:
+        return (1,) + (0,) * (p - 1)
+    ahead = greatest[:-1]
+    return tuple(sum(ahead[len(ahead) - p + k:]) for k in range(p))
+
+
+def last_told(p):
+    """The greatest level of at most 4000 places."""
+    n = 0
+    while sum(counts_by_hand(p, n + 1)) <= 4000:
+        n += 1
+    return n
+
+
+NO_STANDINGS = (
+    (1, 0), (0, 1), (0,), (1,), (),
+    (1, 0, 0, 0, 0, 0, 0, 0, 0), (0,) * 8 + (5,), (1, 0) * 6,
+    (1, 1, 1), (5, 3, 2, 1), (1,) * 8, (10 ** 60,) * 3,
+    (0, 0, 0), (0,) * 8, (0, 0, 0, 0),
+    (-1, 0, 1), (0, 1, -1), (0, -1, 0), (3, 0, -FAR), (0, 1, -10 ** 5000),
+    (10 ** 60 + 1, 0, 0), (0, 0, 10 ** 60 + 1), (1, 0, 10 ** 61), (0, 1, 10 ** 5000),
+    (True, 0, 0), (0, True, 2), (0, 1, False), (False, 1, 2), (False, True, False), (1, 0, 0, 0, 0, 0, 0, True),
+    (None, 0, 1), (0, 1, None), (None, None, None), ("1", 0, 1), (0, 1, "0"), ((1,), 0, 1), (0, 1, [0]), (0, 1, b"0"),
+    [1, 0, 0], [0, 1, 2], [3, 2, 0, 0], {1: 0, 2: 1, 3: 0}, {0, 1, 2}, range(3), "100", "", b"100", b"\x00\x01\x02",
+    None, True, False, 0, 1, 3, -1, FAR, 10 ** 5000, int, len, object(),
+)
