@@ -1,5 +1,7 @@
 """What several tests need: the ways there are, what is none, and levels reckoned by hand."""
 
+import functools
+
 FAR = 10 ** 60 - 1
 WAYS = (2, 3, 4, 5, 6, 7)
 NO_NUMBERS = (True, False, None, "", "2", "3", "x", [], [2], [2, 3], (), (2,), (3, 3), {}, {2: 3}, b"", b"2", {2}, int,
@@ -26,6 +28,59 @@ def last_told(p):
     while sum(counts_by_hand(p, n + 1)) <= 4000:
         n += 1
     return n
+
+
+@functools.lru_cache(maxsize=None)
+def numbers_by_hand(p, n):
+    """The numbers of level n, straight from the words of [13]."""
+    if n == 0:
+        return ((0,),) + ((),) * (p - 1)
+    ahead = numbers_by_hand(p, n - 1)
+    first = tuple(number + 1 for number in ahead[0])
+    return tuple(first + ahead[k + 1] for k in range(p - 1)) + (first,)
+
+
+@functools.lru_cache(maxsize=None)
+def first_spread(p, n):
+    """How many places of the first reel have each number by level n."""
+    if n <= 0:
+        return {0: 1} if n == 0 else {}
+    spread = {}
+    for back in range(1, p + 1):
+        for number, many in first_spread(p, n - back).items():
+            spread[number + 1] = spread.get(number + 1, 0) + many
+    return spread
+
+
+@functools.lru_cache(maxsize=None)
+def spread_by_hand(p, n):
+    """The spread of level n, from those of the first reels of the p levels ahead."""
+    if n == 0:
+        return ((0, 1),)
+    spread = {}
+    for back in range(1, p + 1):
+        # The first reel of the level so far ahead is on all reels by now but the last ones.
+        for number, many in first_spread(p, n - back).items():
+            spread[number + 1] = spread.get(number + 1, 0) + many * (p + 1 - back)
+    return tuple(sorted(spread.items()))
+
+
+def least_by_hand(p, n, rows):
+    """The least reading of so many rows of level n, None where its total is less."""
+    reading = 0
+    for number, many in spread_by_hand(p, n):
+        if rows <= many:
+            return reading + rows * number
+        reading += many * number
+        rows -= many
+    return None
+
+
+def best_by_hand(p, rows):
+    """The least reading over levels 0 to 300, and all levels that have it."""
+    readings = {n: least_by_hand(p, n, rows) for n in range(301)}
+    best = min(reading for reading in readings.values() if reading is not None)
+    return best, [n for n, reading in readings.items() if reading == best]
 
 
 NO_STANDINGS = (

@@ -175,7 +175,7 @@ class Right(unittest.TestCase):
         for standing in some_standings():
             phases, plan, _ = fewest_phases(standing)
             let = bars_by_hand(standing)
-            for bar in [None] + list(range(-9, 10)) + [FAR, -FAR, 10 ** 61]:
+            for bar in (None, -1, 0, 1, 2, 3, 4, 5, 6, 7, 8, 10 ** 61):
                 self.assertIs(phases_right(standing, (phases, plan, bar)), bar in let)
 
     def test_a_phase_more_or_less(self):
@@ -232,6 +232,8 @@ class Right(unittest.TestCase):
             self.assertIs(phases_right((1, 1, 0), (1, [pair], 1)), False)
         self.assertIs(phases_right((1, 1, 0), [1, [(2, 1)], 1]), False)
         self.assertIs(phases_right((1, 1, 0), (1, [(2, 1)])), False)
+        for plan in (None, True, 0, 1):
+            self.assertIs(phases_right((1, 1, 0), (1, plan, 1)), False)
 
     def test_numbers_of_sixty_one_figures(self):
         far = 10 ** 61 - 1
