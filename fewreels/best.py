@@ -10,20 +10,27 @@ from fewreels.wholes import is_tuple_of, is_whole
 MOST_LAID = 400
 
 
+def best_over(p, rows, last, following):
+    """The least reading of so many rows over levels 0 to the last, and the first level that has it."""
+    best = None
+    spreads = first_spreads(p)
+    for n in range(last + 1):
+        spread = spread_over(spreads)
+        least = spread[0][0]
+        # The least number never falls from level to level: no level from here on reads less.
+        if best is not None and rows * least >= best[0]:
+            return best
+        reading = least_of_spread(spread, rows)
+        if reading is not None and (best is None or reading < best[0]):
+            best = (reading, n)
+        spreads = following(spreads)
+    return best
+
+
 def best_reading(p, rows):
     """The least that any laying of so many rows reads, and the first level of which one does."""
     check_ways(p)
-    best = None
-    spreads = first_spreads(p)
-    for n in range(LAST_LEVEL + 1):
-        # Each row is read n by p times, rounded up, at least: no level from here on reads less.
-        if best is not None and rows * -(-n // p) >= best[0]:
-            return best
-        reading = least_of_spread(spread_over(spreads), rows)
-        if reading is not None and (best is None or reading < best[0]):
-            best = (reading, n)
-        spreads = next_spreads(spreads)
-    return best
+    return best_over(p, rows, LAST_LEVEL, next_spreads)
 
 
 def laid_least(numbers, rows):

@@ -2,7 +2,7 @@
 
 from fewreels.errors import TooFew
 from fewreels.levels import check_ways, level_total
-from fewreels.numbers import MOST_PLACES, least_places, level_numbers
+from fewreels.numbers import least_places, level_numbers, next_numbers, numbers_told, places_in
 from fewreels.wholes import is_listed, is_place, is_tuple_of, is_whole
 
 
@@ -54,17 +54,21 @@ def least_placing(p, n, lengths):
     return least_by(level_numbers(p, n), lengths)
 
 
-def best_placing(p, lengths):
-    """The least reading over all levels that can be told, the first of them that has it, and a placing."""
+def best_by(levels, lengths):
+    """The least reading over levels of these numbers, the first of them that has it, and a placing."""
     best = None
-    n = 0
-    while level_total(p, n) <= MOST_PLACES:
-        if level_total(p, n) >= len(lengths):
-            reading, placing = least_by(level_numbers(p, n), lengths)
+    for n, numbers in enumerate(levels):
+        if places_in(numbers) >= len(lengths):
+            reading, placing = least_by(numbers, lengths)
             if best is None or reading < best[0]:
                 best = (reading, n, placing)
-        n += 1
     return best
+
+
+def best_placing(p, lengths):
+    """The least reading over all levels that can be told, the first of them that has it, and a placing."""
+    check_ways(p)
+    return best_by(numbers_told(p, next_numbers), lengths)
 
 
 def placing_right(p, lengths, told):

@@ -15,10 +15,10 @@ def check_ways(p):
         raise NoWays(f"from {LEAST_WAYS} to {MOST_WAYS} reels are read at once")
 
 
-def check_level(n):
-    """Refuse what is no level, of anything."""
-    if not is_whole(n) or not 0 <= n <= LAST_LEVEL:
-        raise NoLevel(f"a level is a whole number from 0 to {LAST_LEVEL}")
+def check_level(n, last=LAST_LEVEL):
+    """Refuse what is no level up to the last one, of anything."""
+    if not is_whole(n) or not 0 <= n <= last:
+        raise NoLevel(f"a level is a whole number from 0 to {last}")
 
 
 def first_counts(p):

@@ -30,14 +30,19 @@ def spread_over(spreads):
     return tuple(sorted(spread.items()))
 
 
+def spread_after(p, n, following):
+    """The spread of level n, each level's reels being what this function makes of those ahead."""
+    spreads = first_spreads(p)
+    for level in range(n):
+        spreads = following(spreads)
+    return spread_over(spreads)
+
+
 def spread_of(p, n):
     """The rising pairs of a number and how many places of level n have it."""
     check_ways(p)
     check_level(n)
-    spreads = first_spreads(p)
-    for level in range(n):
-        spreads = next_spreads(spreads)
-    return spread_over(spreads)
+    return spread_after(p, n, next_spreads)
 
 
 def least_of_spread(spread, rows):

@@ -65,10 +65,10 @@ def spread_by_hand(p, n):
     return tuple(sorted(spread.items()))
 
 
-def least_by_hand(p, n, rows):
-    """The least reading of so many rows of level n, None where its total is less."""
+def least_of(spread, rows):
+    """So many of a spread's least numbers together, None where it has fewer."""
     reading = 0
-    for number, many in spread_by_hand(p, n):
+    for number, many in spread:
         if rows <= many:
             return reading + rows * number
         reading += many * number
@@ -76,11 +76,21 @@ def least_by_hand(p, n, rows):
     return None
 
 
-def best_by_hand(p, rows):
-    """The least reading over levels 0 to 300, and all levels that have it."""
-    readings = {n: least_by_hand(p, n, rows) for n in range(301)}
+def best_of(spreads, rows):
+    """The least reading over levels of these spreads, and all levels that have it."""
+    readings = {n: least_of(spread, rows) for n, spread in enumerate(spreads)}
     best = min(reading for reading in readings.values() if reading is not None)
     return best, [n for n, reading in readings.items() if reading == best]
+
+
+def least_by_hand(p, n, rows):
+    """The least reading of so many rows of level n, None where its total is less."""
+    return least_of(spread_by_hand(p, n), rows)
+
+
+def best_by_hand(p, rows):
+    """The least reading over levels 0 to 300, and all levels that have it."""
+    return best_of([spread_by_hand(p, n) for n in range(301)], rows)
 
 
 NO_STANDINGS = (
@@ -95,3 +105,11 @@ NO_STANDINGS = (
     [1, 0, 0], [0, 1, 2], [3, 2, 0, 0], {1: 0, 2: 1, 3: 0}, {0, 1, 2}, range(3), "100", "", b"100", b"\x00\x01\x02",
     None, True, False, 0, 1, 3, -1, FAR, 10 ** 5000, int, len, object(),
 )
+
+
+def lists_in(thing):
+    """All lists in it, itself too, however deep they lie."""
+    if not isinstance(thing, (list, tuple)):
+        return []
+    inside = [each for part in thing for each in lists_in(part)]
+    return [thing] + inside if isinstance(thing, list) else inside
