@@ -145,6 +145,24 @@ class Statements(unittest.TestCase):
                     continue
                 self.assertIsInstance(each, (ast.FunctionDef, ast.Pass), name)
 
+    def test_tables_hold_functions_defined_above(self):
+        for path, tree in trees():
+            defined = set()
+            for node in tree.body:
+                if isinstance(node, ast.FunctionDef):
+                    defined.add(node.name)
+                elif isinstance(node, ast.Assign):
+                    for each in ast.walk(node.value):
+                        if isinstance(each, ast.Name):
+                            self.assertIn(each.id, defined, path.name)
+                        self.assertNotIsInstance(each, (ast.Call, ast.Set, ast.ListComp, ast.DictComp), path.name)
+
+    def test_no_name_is_a_method_and_an_attribute(self):
+        methods = {each.name for _, node in nodes(ast.ClassDef) for each in node.body if isinstance(each, ast.FunctionDef)}
+        assigned = {node.attr for _, node in nodes(ast.Attribute) if isinstance(node.ctx, ast.Store)}
+        self.assertEqual(methods & assigned, set())
+        self.assertEqual(assigned & METHODS, set())
+
     def test_is_only_with_none_and_truths(self):
         for name, node in nodes(ast.Compare):
             for sign, right in zip(node.ops, node.comparators):
