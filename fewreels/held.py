@@ -39,17 +39,15 @@ def balanced_reading(p, rows, things):
 def held_rows(p, rows):
     """The least readings of so many like rows: of any log, by phases, by the cascade, by balanced passes."""
     check_ways(p)
-    phases, level = best_reading(p, rows)
-    cascade, level = best_cascade(p, rows)
-    return (like_join(p, rows), phases, cascade, balanced_reading(p, rows, rows))
+    balanced = balanced_reading(p, rows, rows)
+    return (like_join(p, rows), best_reading(p, rows)[0], best_cascade(p, rows)[0], balanced)
 
 
 def held_lengths(p, lengths):
     """The same of rows of these lengths; by phases and by the cascade each with its level."""
     check_ways(p)
-    reading, log = least_join(p, lengths)
     balanced = balanced_reading(p, len(lengths), sum(lengths))
-    return (reading, best_placing(p, lengths)[:2], long_cascade(p, lengths), balanced)
+    return (least_join(p, lengths)[0], best_placing(p, lengths)[:2], long_cascade(p, lengths), balanced)
 
 
 def better_way(p, lengths):

@@ -82,9 +82,9 @@ def numbers_join(p, numbers):
     """A log by which no row is read more often than its number, None where the sum of all rows is above 1."""
     check_ways(p)
     rows = len(numbers)
-    if min(numbers) < 0:
+    if any([number < 0 for number in numbers]):
         return None
-    # No log reads one of so many rows so many times, so a greater number lets no more than one fewer.
+    # A log reads each of its rows fewer times than there are rows, so a greater number lets no more.
     most = [min(number, rows - 1) for number in numbers]
     log = []
     there = []
@@ -97,4 +97,4 @@ def numbers_join(p, numbers):
             there.append(rows + len(log) - 1 if len(part) > 1 else part[0])
     # Each p of one number made one of a number less, rounded up, so what is left is the sum, rounded up.
     left = there + [row for row in range(rows) if most[row] == 0]
-    return log if len(left) == 1 else None
+    return log if len(left) <= 1 else None

@@ -167,12 +167,15 @@ class Deeds(unittest.TestCase):
         self.assertEqual(desk.say("show"), "2 -")
 
     def test_back_behind_each_deed(self):
-        for deed in ("reels 5", "reels 3", "add 1", "add 7 8 9", "drop 0", "drop 2"):
-            desk = desk_with(3, [4, 6, 1])
-            told = answers(desk)
-            self.assertEqual(desk.say(deed), "ok")
-            self.assertEqual(desk.say("back"), "ok")
-            self.assertEqual(answers(desk), told)
+        for p in WAYS:
+            for lengths in ([], [7], [4, 6, 1], some_lengths(p, 57, 99)):
+                deeds = ["reels 5", f"reels {p}", "add 1", "add 7 8 9"] + [f"drop {at}" for at in range(len(lengths))][:3]
+                for deed in deeds:
+                    desk = desk_with(p, lengths)
+                    told = answers(desk)
+                    self.assertEqual(desk.say(deed), "ok")
+                    self.assertEqual(desk.say("back"), "ok")
+                    self.assertEqual(answers(desk), told)
 
     def test_deeds_that_change_nothing_count_too(self):
         desk = Desk()

@@ -412,6 +412,15 @@ class NumbersJoin(unittest.TestCase):
             for numbers in ([-1, 5], [5, -1], [-FAR] * 3, [FAR, -FAR], [9] * 59 + [-1]):
                 self.assertIsNone(numbers_join(p, numbers))
 
+    def test_somewhat_more_or_less_than_one_to_sixty_rows(self):
+        for p in WAYS:
+            self.assertEqual(numbers_join(p, []), [])
+            self.assertEqual(least_join(p, []), (0, []))
+            for rows in (61, 100):
+                self.assertIs(self.right(p, [rows] * rows), True)
+                self.assertIs(self.right(p, [1] * rows), False)
+                self.assertIs(join_right(p, [1] * rows, least_join(p, [1] * rows)), True)
+
     def test_of_chance(self):
         chance = random.Random(28)
         lets = 0
